@@ -1,0 +1,1 @@
+"""Leafhouse: a great table kept in pages."""

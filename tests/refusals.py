@@ -1,0 +1,100 @@
+"""What the tests share: things of many kinds, and how a refusal is looked at."""
+
+from leafhouse import errors
+
+# The signs of texts: from the blank to ~ but the percent sign.
+ALL_SIGNS = "".join([chr(code) for code in range(32, 127) if code != 37])
+NAMES = (
+    "BadNumber",
+    "BadText",
+    "BadSize",
+    "BadKey",
+    "BadValue",
+    "BadPage",
+    "NoKey",
+    "InBundle",
+    "NoBundle",
+    "PowerGone",
+    "Closed",
+    "BadLine",
+)
+
+
+class Unshown:
+    """A thing that can be neither shown, compared nor hashed."""
+
+    def __repr__(self):
+        raise RuntimeError("not to be shown")
+
+    def __eq__(self, other):
+        raise RuntimeError("not to be compared")
+
+    def __bool__(self):
+        raise RuntimeError("neither true nor false")
+
+    __hash__ = None
+
+
+def things_but(*kinds):
+    """Things of many kinds, new ones each time, without those of the kinds told."""
+    things = [
+        None,
+        True,
+        False,
+        0,
+        1,
+        2,
+        -1,
+        10**5000,
+        -(10**5000),
+        1.0,
+        2.5,
+        float("nan"),
+        1j,
+        "",
+        "0",
+        "a text",
+        b"",
+        b"0",
+        bytearray(b"0"),
+        [],
+        [0],
+        ["a"],
+        (),
+        (1,),
+        ("a", "b"),
+        {},
+        {"a": "b"},
+        {1: 2},
+        set(),
+        {"a"},
+        frozenset("a"),
+        range(2),
+        object(),
+        Unshown(),
+        int,
+        str,
+        len,
+        iter("a"),
+    ]
+    return [thing for thing in things if type(thing) not in kinds]
+
+
+def refusal(do, *given):
+    """The error by which a call is refused, or None."""
+    try:
+        do(*given)
+    except errors.TableError as error:
+        return error
+    return None
+
+
+def assert_refused(case, name, do, *given):
+    """A call is refused by the class of that name and by no other one of the twelve."""
+    error = refusal(do, *given)
+    case.assertIsNotNone(error, "not refused")
+    told = [each for each in NAMES if isinstance(error, getattr(errors, each))]
+    case.assertEqual(told, [name])
+    case.assertIsInstance(error, errors.TableError)
+    case.assertIsInstance(error, ValueError)
+    return error
