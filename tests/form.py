@@ -25,6 +25,14 @@ WORDS = (
     r"\b(type|typing|typing_extensions|enum|Enum|IntEnum|StrEnum|Flag|IntFlag|Generic|Protocol|ABC|ABCMeta"
     r"|namedtuple|NamedTuple|TypedDict|TYPE_CHECKING|abstractmethod)\b|dataclass|overload|contextmanager"
 )
+METHODS = (
+    "append clear copy count endswith extend find get index insert isalnum isalpha isdigit islower isspace isupper "
+    "items join keys ljust lower lstrip partition pop remove replace reverse rfind rjust rpartition rsplit rstrip "
+    "setdefault split splitlines startswith strip update upper values zfill bit_length"
+).split()
+CHANGES = "append clear extend insert pop remove reverse setdefault update".split()
+FIELDS = "count index title find get join lower upper split strip copy add".split()
+PYTHONS = sorted({name for kind in (str, int, list, tuple, dict, set, bytes) for name in dir(kind)})
 NODES = (
     "Module FunctionDef ClassDef arguments arg Assign AugAssign If While For Return Break Continue Pass Raise "
     "Try ExceptHandler Expr ImportFrom alias Constant List Tuple Dict Set BinOp UnaryOp BoolOp Compare IfExp "
@@ -174,10 +182,61 @@ def node_faults(node):
     return []
 
 
+def shadow_faults(tree):
+    """Parameters and locals that are called like an import or a class of the file."""
+    taken = [each.name for each in ast.walk(tree) if isinstance(each, (ast.ClassDef, ast.alias))]
+    found = []
+    for node in ast.walk(tree):
+        if isinstance(node, ast.arg) and node.arg in taken:
+            found.append((node.lineno, "L15"))
+        if isinstance(node, ast.Name) and isinstance(node.ctx, ast.Store) and node.id in taken:
+            found.append((node.lineno, "L15"))
+    return found
+
+
+def attribute_faults(tree):
+    """Methods of Python's own that aren't among those that are used, and own ones that are called like them."""
+    found = []
+    for node in ast.walk(tree):
+        if isinstance(node, ast.ClassDef):
+            own = [each for each in node.body if isinstance(each, ast.FunctionDef) and each.name not in SPECIAL]
+            barred = [each for each in PYTHONS if each not in METHODS + ["add", "discard"]]
+            found.extend([(each.lineno, "L26") for each in own if each.name in barred])
+        if isinstance(node, ast.Attribute) and isinstance(node.ctx, ast.Store):
+            if node.attr in PYTHONS + ["args"] and node.attr not in FIELDS:
+                found.append((node.lineno, "L26"))
+        if isinstance(node, ast.Attribute) and isinstance(node.ctx, ast.Load):
+            if node.attr in PYTHONS and node.attr not in METHODS + FIELDS + SPECIAL + ["discard"]:
+                found.append((node.lineno, "L25"))
+    return found
+
+
+def walked(node):
+    """The texts of what a loop walks, itself or through enumerate, zip, reversed or items."""
+    through = ("enumerate", "zip", "reversed")
+    if isinstance(node, ast.Call) and isinstance(node.func, ast.Name) and node.func.id in through:
+        return [name for each in node.args for name in walked(each)]
+    if isinstance(node, ast.Call) and isinstance(node.func, ast.Attribute):
+        return [ast.unparse(node.func.value)] if node.func.attr in ("items", "keys", "values") else []
+    return [ast.unparse(node)]
+
+
+def loop_faults(tree):
+    found = []
+    for loop in [each for each in ast.walk(tree) if isinstance(each, ast.For)]:
+        names = walked(loop.iter)
+        for node in [inner for each in loop.body for inner in ast.walk(each)]:
+            stored = isinstance(node, ast.Subscript) and isinstance(node.ctx, ast.Store)
+            changed = isinstance(node, ast.Attribute) and node.attr in CHANGES
+            if (stored or changed) and ast.unparse(node.value) in names:
+                found.append((node.lineno, "L23"))
+    return found
+
+
 def file_faults(text):
     """Faults of one file by itself."""
     tree = ast.parse(text)
-    found = text_faults(text) + top_faults(tree)
+    found = text_faults(text) + top_faults(tree) + shadow_faults(tree) + attribute_faults(tree) + loop_faults(tree)
     for node in ast.walk(tree):
         found.extend([(getattr(node, "lineno", 0), rule) for rule in node_faults(node)])
     return sorted(set(found))

@@ -1,7 +1,7 @@
 import unittest
 
 from leafhouse import errors
-from tests.refusals import NAMES
+from tests.helper import NAMES
 
 
 class TestErrors(unittest.TestCase):

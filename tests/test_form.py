@@ -63,6 +63,14 @@ class TestTheLooking(unittest.TestCase):
             "x = 1  #\ta tab": "L14",
             "x = '" + "a" * 120 + "'": "L10",
             "def f(x):\n    try:\n        x()\n    except Exception:\n        pass": "L19",
+            "from a.b import y\ndef f(x):\n    y = x\n    return y": "L15",
+            "class A:\n    pass\ndef f(A):\n    return 1": "L15",
+            "class A:\n    def encode(self):\n        return 1": "L26",
+            "class A:\n    def f(self):\n        self.values = 1": "L26",
+            "def f(x):\n    return x.casefold()": "L25",
+            "def f(x):\n    for y in x:\n        x.append(y)": "L23",
+            "def f(x):\n    for y, z in enumerate(x.a):\n        x.a[y] = z": "L23",
+            "def f(x):\n    for y, z in x.items():\n        x.pop(y)": "L23",
         }
         for text, rule in told.items():
             with self.subTest(text):

@@ -1,7 +1,7 @@
 import unittest
 
 from leafhouse.kinds import is_key, is_value
-from tests.refusals import ALL_SIGNS, things_but
+from tests.helper import ALL_SIGNS, things_but
 
 
 class TestKinds(unittest.TestCase):

@@ -1,7 +1,7 @@
 import unittest
 
 from leafhouse.signs import SIGNS, check_of, digits, number_of
-from tests.refusals import ALL_SIGNS, assert_refused, things_but
+from tests.helper import ALL_SIGNS, assert_refused, things_but
 
 BEYOND = {1: 64, 2: 4096, 3: 262144}
 

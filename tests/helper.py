@@ -1,9 +1,10 @@
-"""What the tests share: things of many kinds, and how a refusal is looked at."""
+"""What the tests share: things of many kinds, texts made by hand, and how a refusal is looked at."""
 
 from leafhouse import errors
 
 # The signs of texts: from the blank to ~ but the percent sign.
 ALL_SIGNS = "".join([chr(code) for code in range(32, 127) if code != 37])
+SIXTY_FOUR = "0123456789abcdefghijklmnopqrstuvwxyzABCDEFGHIJKLMNOPQRSTUVWXYZ+-"
 NAMES = (
     "BadNumber",
     "BadText",
@@ -98,3 +99,31 @@ def assert_refused(case, name, do, *given):
     case.assertIsInstance(error, errors.TableError)
     case.assertIsInstance(error, ValueError)
     return error
+
+
+def two(number):
+    """A number by two signs, reckoned apart from the program."""
+    return SIXTY_FOUR[number // 64] + SIXTY_FOUR[number % 64]
+
+
+def with_check(text):
+    """A text and its check, reckoned apart from the program."""
+    return text + two(sum([(ord(sign) - 31) * place for place, sign in enumerate(text, start=1)]) % 4093)
+
+
+def text_by_hand(letter, body, size=64):
+    """A page's text, or what looks like one, from its letter and body."""
+    return with_check((letter + two(len(body)) + body).ljust(size - 2, "0"))
+
+
+def row_by_hand(number, text):
+    return with_check(two(number) + text)
+
+
+def last_row_by_hand(many):
+    return with_check("k" + two(many))
+
+
+def many_keys(many, long=2):
+    """Rising keys, each of so many signs."""
+    return tuple([str(number).rjust(long, "0") for number in range(10, 10 + many)])
