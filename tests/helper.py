@@ -1,6 +1,7 @@
 """What the tests share: things of many kinds, texts made by hand, and how a refusal is looked at."""
 
 from leafhouse import errors
+from leafhouse.pages import page_of
 
 # The signs of texts: from the blank to ~ but the percent sign.
 ALL_SIGNS = "".join([chr(code) for code in range(32, 127) if code != 37])
@@ -127,3 +128,27 @@ def last_row_by_hand(many):
 def many_keys(many, long=2):
     """Rising keys, each of so many signs."""
     return tuple([str(number).rjust(long, "0") for number in range(10, 10 + many)])
+
+
+def pages_on(disk):
+    """The pages that the texts on a disk tell."""
+    return [page_of(text) for text in disk.pages()]
+
+
+def pages_of(store):
+    """All pages that a store tells."""
+    pages = []
+    while refusal(store.page, len(pages)) is None:
+        pages.append(store.page(len(pages)))
+    return pages
+
+
+def free_row(store):
+    """The numbers of the free ones, in their order."""
+    numbers = []
+    number = store.head()[4]
+    while number != 0:
+        numbers.append(number)
+        kind, number = store.page(number)
+        assert kind == "free", kind
+    return numbers
