@@ -30,6 +30,7 @@ METHODS = (
     "items join keys ljust lower lstrip partition pop remove replace reverse rfind rjust rpartition rsplit rstrip "
     "setdefault split splitlines startswith strip update upper values zfill bit_length"
 ).split()
+WALKERS = "list tuple dict sorted sum any all enumerate zip".split()
 CHANGES = "append clear extend insert pop remove reverse setdefault update".split()
 FIELDS = "count index title find get join lower upper split strip copy add".split()
 PYTHONS = sorted({name for kind in (str, int, list, tuple, dict, set, bytes) for name in dir(kind)})
@@ -233,10 +234,44 @@ def loop_faults(tree):
     return found
 
 
+def is_walked_there(node, above):
+    """Whether what stands beneath another node is walked on the spot by that one."""
+    if isinstance(above, (ast.For, ast.comprehension)):
+        return above.iter is node
+    if not isinstance(above, ast.Call) or node is above.func:
+        return False
+    if isinstance(above.func, ast.Attribute):
+        return above.func.attr == "join" and isinstance(above.func.value, ast.Constant)
+    if above.func.id in ("min", "max"):
+        return len(above.args) == 1
+    if above.func.id == "zip":
+        return True
+    return above.func.id in WALKERS and above.args[0] is node
+
+
+def is_only_walked(node):
+    """Whether a call gives what may be walked alone."""
+    if not isinstance(node, ast.Call):
+        return False
+    if isinstance(node.func, ast.Attribute):
+        return node.func.attr in ("items", "keys", "values") and not node.args
+    return isinstance(node.func, ast.Name) and node.func.id in ("zip", "enumerate", "reversed", "range")
+
+
+def kept_walk_faults(tree):
+    found = []
+    for above in ast.walk(tree):
+        for node in ast.iter_child_nodes(above):
+            if is_only_walked(node) and not is_walked_there(node, above):
+                found.append((node.lineno, "L23"))
+    return found
+
+
 def file_faults(text):
     """Faults of one file by itself."""
     tree = ast.parse(text)
-    found = text_faults(text) + top_faults(tree) + shadow_faults(tree) + attribute_faults(tree) + loop_faults(tree)
+    found = text_faults(text) + top_faults(tree) + shadow_faults(tree) + attribute_faults(tree)
+    found = found + loop_faults(tree) + kept_walk_faults(tree)
     for node in ast.walk(tree):
         found.extend([(getattr(node, "lineno", 0), rule) for rule in node_faults(node)])
     return sorted(set(found))

@@ -56,7 +56,8 @@ class TestGoing(unittest.TestCase):
 
     def test_to_a_key_there_or_not(self):
         cursor = table_of(["b", "d", "f"]).cursor()
-        told = {"a": ("b", None), "b": ("d", None), "c": ("d", "b"), "d": ("f", "b"), "f": (None, "d"), "g": (None, "f")}
+        told = {"a": ("b", None), "b": ("d", None), "c": ("d", "b"), "d": ("f", "b")}
+        told.update({"f": (None, "d"), "g": (None, "f")})
         for key, (forth, back) in told.items():
             with self.subTest(key):
                 self.assertIsNone(cursor.to(key))

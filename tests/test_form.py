@@ -71,6 +71,9 @@ class TestTheLooking(unittest.TestCase):
             "def f(x):\n    for y in x:\n        x.append(y)": "L23",
             "def f(x):\n    for y, z in enumerate(x.a):\n        x.a[y] = z": "L23",
             "def f(x):\n    for y, z in x.items():\n        x.pop(y)": "L23",
+            "def f(x):\n    y = zip(x, x)\n    return list(y)": "L23",
+            "def f(x):\n    return x.keys()": "L23",
+            "def f(x):\n    return len(range(x))": "L23",
         }
         for text, rule in told.items():
             with self.subTest(text):

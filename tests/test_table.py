@@ -39,12 +39,13 @@ class TestValues(unittest.TestCase):
             for turn, long in enumerate(edge_longs(size)):
                 plain[f"key {turn}"] = value_of(long)
                 self.assertIsNone(table.put(f"key {turn}", value_of(long)))
-            for again in (table, Table(table.store.disk, 2)):
+            for turn in range(2):
                 for key, value in plain.items():
                     with self.subTest(size=size, long=len(value)):
-                        self.assertEqual(again.get(key), value)
-                        self.assertIs(again.has(key), True)
-                self.assertEqual(walked(self, again.store).values, plain)
+                        self.assertEqual(table.get(key), value)
+                        self.assertIs(table.has(key), True)
+                self.assertEqual(walked(self, table.store).values, plain)
+                table = Table(table.store.disk, 2)
 
     def test_each_edge_over_each_other_one(self):
         for size in (64, 200):
@@ -193,6 +194,12 @@ class TestDeeds(unittest.TestCase):
         Table(disk).put("a", "b")
         for most in (2, 8, 40):
             self.assertEqual(Table(disk, most).get("a"), "b")
+        for turn in range(60):
+            Table(disk).put(f"key number{turn}", "v" * 8)
+        for given, most in (((), 8), ((8,), 8), ((3,), 3)):
+            table = Table(disk, *given)
+            table.all_keys()
+            self.assertEqual(len(table.store.shelf.held()), most)
 
     def test_a_deed_alone_is_kept_at_once(self):
         disk = Disk(64)

@@ -451,7 +451,8 @@ class TestByHand(Deeds):
 
     def test_a_shorter_key_leaves_a_fork_too_short(self):
         # The key of twelve signs becomes one of two, and the fork has less than a quarter then.
-        leaves = [leaf_by_hand(("a1", ""), ("a2", "12345678")), leaf_by_hand(*[(f"b{each}", "1234567") for each in "1234"])]
+        full = leaf_by_hand(*[(f"b{each}", "1234567") for each in "1234"])
+        leaves = [leaf_by_hand(("a1", ""), ("a2", "12345678")), full]
         other = (("d00000000000",), [leaf_by_hand(("c5", "12345678")), leaf_by_hand(("d5", "12345678"))])
         self.plant(64, (("c",), [(("b00000000000",), leaves), other]))
         self.assertEqual(self.walk.depth, 3)
