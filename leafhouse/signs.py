@@ -6,8 +6,9 @@ SIGNS = "0123456789abcdefghijklmnopqrstuvwxyzABCDEFGHIJKLMNOPQRSTUVWXYZ+-"
 BITS = 6
 LOWEST_BITS = 63
 MOST_SIGNS = 3
-# Told by its number, as that sign itself may stand in no text of the program.
-PERCENT = 37
+TEXT_SIGNS = " !\"#$&'()*+,-./0123456789:;<=>?@ABCDEFGHIJKLMNOPQRSTUVWXYZ[\\]^_`abcdefghijklmnopqrstuvwxyz{|}~"
+# What a sign's number in a check is less than its code.
+CODES_AHEAD = 31
 CHECK_DIVISOR = 4093
 CHECK_SIGNS = 2
 
@@ -17,16 +18,9 @@ def is_whole(thing):
     return isinstance(thing, int) and not isinstance(thing, bool)
 
 
-def is_sign(sign):
-    return " " <= sign <= "~" and ord(sign) != PERCENT
-
-
 def is_text(thing):
-    return isinstance(thing, str) and all([is_sign(sign) for sign in thing])
-
-
-def sign_number(sign):
-    return ord(sign) - ord(" ") + 1
+    # Strip takes away just these signs from both ends: where nothing is left, there was no other one.
+    return isinstance(thing, str) and thing.strip(TEXT_SIGNS) == ""
 
 
 # The errors' words never show what was handed in: a thing of any kind may fail to be shown.
@@ -63,5 +57,5 @@ def number_of(text):
 def check_of(text):
     if not is_text(text):
         raise BadText("no text")
-    total = sum([sign_number(sign) * place for place, sign in enumerate(text, start=1)])
+    total = sum([(ord(sign) - CODES_AHEAD) * place for place, sign in enumerate(text, start=1)])
     return digits(total % CHECK_DIVISOR, CHECK_SIGNS)
